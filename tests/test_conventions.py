@@ -1,0 +1,113 @@
+"""The conventions of DOC.md that concern all functions of the interface."""
+
+import copy
+import inspect
+import unittest
+
+from tests.things import CELLS, SOME, plain_things
+from yesifs import errors, facts, tables
+
+INTERFACE = {
+    tables: {"is_table": ["thing"], "does_conflict": ["table", "one", "other"], "is_coarser": ["table", "other"]},
+    facts: {"is_fact": ["thing"], "are_facts": ["thing"], "fate": ["facts", "t"], "kept_by": ["facts"],
+            "dropped_by": ["facts"], "open_by": ["facts"], "judge_fate": ["facts", "t"],
+            "fate_holds": ["facts", "t", "thing"], "needed": ["facts", "t"]},
+}
+GOOD = {"thing": ("kept", (1,)), "table": CELLS, "one": "add", "other": "get", "facts": SOME, "t": 3}
+
+
+def listed():
+    return [(getattr(module, name), parameters) for module, names in INTERFACE.items()
+            for name, parameters in names.items()]
+
+
+def good_for(function, parameter):
+    return CELLS if function is tables.is_coarser else GOOD[parameter]
+
+
+def result(function, values):
+    """What a call gives: its result, or its error and the value that the error names."""
+    try:
+        return ("result", function(**values))
+    except errors.YesError as error:
+        return (error.__class__, vars(error))
+
+
+class Conventions(unittest.TestCase):
+    def test_names_and_parameters(self):
+        for module, names in INTERFACE.items():
+            for name, parameters in names.items():
+                found = getattr(module, name)
+                self.assertTrue(inspect.isfunction(found), name)
+                self.assertEqual(found.__module__, module.__name__)
+                self.assertEqual(list(inspect.signature(found).parameters), parameters)
+                for parameter in inspect.signature(found).parameters.values():
+                    self.assertEqual(parameter.kind, parameter.POSITIONAL_OR_KEYWORD)
+                    self.assertIs(parameter.default, parameter.empty)
+
+    def test_by_position_and_by_name(self):
+        for function, parameters in listed():
+            values = {parameter: good_for(function, parameter) for parameter in parameters}
+            backwards = dict(reversed(list(values.items())))
+            self.assertEqual(function(*values.values()), function(**backwards), function.__name__)
+
+    def test_any_values_change_nothing_and_give_the_same_again(self):
+        for function, parameters in listed():
+            for parameter in parameters:
+                for thing in plain_things():
+                    values = {other: good_for(function, other) for other in parameters}
+                    values[parameter] = thing
+                    before = repr(values)
+                    first = result(function, values)
+                    self.assertEqual(repr(values), before)
+                    self.assertEqual(result(function, values), first)
+
+    def test_lists_and_dicts_stay_as_they_are(self):
+        for thing in ([("firm", 1, [])], {"a": [1]}, ([1], {2: [3]}), ("kept", [1]), ("open", [("firm", 7, ())], {})):
+            for function, parameters in listed():
+                for parameter in parameters:
+                    values = {other: good_for(function, other) for other in parameters}
+                    values[parameter] = copy.deepcopy(thing)
+                    result(function, values)
+                    self.assertEqual(values[parameter], thing)
+
+    def test_true_and_false(self):
+        for function, parameters in listed():
+            if function.__name__.startswith(("is_", "are_", "may_", "does_")) or function.__name__.endswith("_holds"):
+                for thing in plain_things():
+                    values = {other: good_for(function, other) for other in parameters}
+                    values[parameters[-1]] = thing
+                    found = result(function, values)
+                    self.assertTrue(found[0] != "result" or found[1] is True or found[1] is False)
+
+    def test_results_are_tuples_and_strings(self):
+        for function in (facts.kept_by, facts.dropped_by, facts.open_by):
+            for given in ((), SOME):
+                self.assertIs(type(function(given)), tuple)
+        for t in range(10):
+            self.assertIs(type(facts.fate(SOME, t)), str)
+            self.assertIs(type(facts.needed(SOME, t)), tuple)
+            thing = facts.judge_fate(SOME, t)
+            self.assertEqual({type(thing), *[type(part) for part in thing[1:]]}, {tuple})
+
+    def test_the_first_error_is_raised(self):
+        for call, error, thing in [
+                (lambda: tables.does_conflict([], 1, 2), errors.BadTable, []),
+                (lambda: tables.does_conflict(CELLS, 1, 2), errors.BadKind, 1),
+                (lambda: tables.does_conflict(other=2, one="get", table=CELLS), errors.BadKind, 2),
+                (lambda: tables.is_coarser(3, 4), errors.BadTable, 3),
+                (lambda: tables.is_coarser(other=4, table=CELLS), errors.BadTable, 4),
+                (lambda: facts.fate(t=-1, facts=[]), errors.BadFacts, []),
+                (lambda: facts.needed(None, None), errors.BadFacts, None),
+                (lambda: facts.judge_fate((1,), True), errors.BadFacts, (1,)),
+                (lambda: facts.fate_holds((), True, None), errors.BadTransaction, True),
+                (lambda: facts.fate_holds(thing=1, t=2, facts=3), errors.BadFacts, 3)]:
+            with self.assertRaises(errors.YesError) as caught:
+                call()
+            self.assertIs(type(caught.exception), error)
+            self.assertEqual(caught.exception.thing, thing)
+            self.assertIs(type(caught.exception.thing), type(thing))
+
+
+if __name__ == "__main__":
+    unittest.main()

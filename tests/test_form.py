@@ -1,0 +1,108 @@
+"""The rules of form that can be read off the files: sizes, characters, imports, names and words."""
+
+import ast
+import builtins
+import re
+import unittest
+from pathlib import Path
+
+PACKAGE = Path(__file__).resolve().parent.parent / "yesifs"
+FILES = sorted(PACKAGE.glob("*.py"))
+TREES = {path: ast.parse(path.read_text()) for path in FILES}
+NEVER = (ast.AsyncFunctionDef, ast.AsyncFor, ast.AsyncWith, ast.Await, ast.Div, ast.MatMult)
+BUILTINS = set(
+    "len range enumerate zip min max sum abs sorted reversed int str bool bytes list tuple dict set frozenset "
+    "isinstance ord repr any all divmod pow getattr hasattr setattr iter next map type super property staticmethod "
+    "classmethod Exception ValueError TypeError KeyError IndexError LookupError ZeroDivisionError ArithmeticError "
+    "OverflowError RuntimeError NotImplementedError AttributeError StopIteration NotImplemented".split())
+METHODS = set(
+    "append clear copy count endswith extend find get index insert isalnum isalpha isdigit islower isspace isupper "
+    "items join keys ljust lower lstrip partition pop remove replace reverse rfind rjust rpartition rsplit rstrip "
+    "setdefault split splitlines startswith strip update upper values zfill bit_length title capitalize swapcase "
+    "casefold center expandtabs removeprefix removesuffix rindex isascii isdecimal isnumeric istitle isidentifier "
+    "isprintable translate sort format encode decode hex add discard".split())
+PLAIN_METHODS = {name for kind in (str, int, list, tuple, dict, set, bytes) for name in dir(kind)}
+
+
+def nodes(kind):
+    return [(path, node) for path, tree in TREES.items() for node in ast.walk(tree) if isinstance(node, kind)]
+
+
+class Form(unittest.TestCase):
+    def test_the_folder_holds_only_plain_files(self):
+        self.assertIn(PACKAGE / "__init__.py", FILES)
+        for path in PACKAGE.iterdir():
+            if path.name != "__pycache__":
+                self.assertRegex(path.name, r"^[a-z0-9_]+\.py$")
+
+    def test_sizes_and_characters(self):
+        for path in FILES:
+            text = path.read_text()
+            self.assertLessEqual(len(text.splitlines()), 399, path)
+            self.assertLessEqual(max(len(line) for line in text.splitlines()), 120, path)
+            self.assertRegex(text, r"\A[ -~\n]*\Z", path)
+        for path, node in nodes(ast.FunctionDef):
+            self.assertLessEqual(node.end_lineno - node.lineno + 1, 40, node.name)
+
+    def test_imports_name_the_defining_file(self):
+        defined = {path.stem: {node.name for node in tree.body if isinstance(node, (ast.FunctionDef, ast.ClassDef))}
+                   for path, tree in TREES.items()}
+        for path, node in nodes(ast.ImportFrom):
+            self.assertIn(node, TREES[path].body)
+            package, _, module = node.module.partition(".")
+            if package == "yesifs":
+                self.assertEqual(node.level, 0)
+                self.assertEqual([name.name for name in node.names if name.name not in defined[module]], [])
+            else:
+                self.assertIn(package, ("heapq", "math", "itertools", "collections", "__future__"))
+        self.assertEqual(nodes(ast.Import), [])
+
+    def test_no_circles_of_imports(self):
+        reach = {path.stem: {node.module.partition(".")[2] for node in ast.walk(tree)
+                             if isinstance(node, ast.ImportFrom) and node.module.startswith("yesifs.")}
+                 for path, tree in TREES.items()}
+        for _ in list(reach):
+            reach = {name: found.union(*[reach[other] for other in found]) for name, found in reach.items()}
+        self.assertEqual([name for name, found in reach.items() if name in found], [])
+
+    def test_what_modules_hold(self):
+        for path, tree in TREES.items():
+            self.assertIsNotNone(ast.get_docstring(tree), path)
+            for node in tree.body[1:]:
+                self.assertIsInstance(node, (ast.ImportFrom, ast.FunctionDef, ast.ClassDef, ast.Assign))
+
+    def test_what_is_never_used(self):
+        self.assertEqual([(path.name, node.lineno) for path, node in nodes(NEVER)], [])
+        self.assertEqual([node.lineno for path, node in nodes(ast.Constant) if isinstance(node.value, float)], [])
+
+    def test_builtins_and_methods(self):
+        for path, node in nodes(ast.Name):
+            self.assertFalse(hasattr(builtins, node.id) and node.id not in BUILTINS, (path.name, node.id))
+        for path, node in nodes(ast.Attribute):
+            if node.attr in PLAIN_METHODS:
+                self.assertIn(node.attr, METHODS | {"__init__"}, (path.name, node.lineno))
+
+    def test_sets_are_not_iterated(self):
+        for path, node in nodes((ast.For, ast.comprehension)):
+            made = isinstance(node.iter, ast.Call) and isinstance(node.iter.func, ast.Name) and node.iter.func.id
+            self.assertNotIn(made, ("set", "frozenset"), path)
+            self.assertNotIsInstance(node.iter, (ast.Set, ast.SetComp, ast.BinOp), path)
+
+    def test_no_name_hides_a_builtin_a_class_or_an_import(self):
+        for path, tree in TREES.items():
+            taken = {alias.name for node in tree.body if isinstance(node, ast.ImportFrom) for alias in node.names}
+            taken |= {node.name for node in tree.body if isinstance(node, ast.ClassDef)} | set(dir(builtins))
+            names = [node.arg for node in ast.walk(tree) if isinstance(node, ast.arg)]
+            names += [node.id for node in ast.walk(tree) if isinstance(node, ast.Name)
+                      and isinstance(node.ctx, ast.Store)]
+            self.assertEqual([name for name in names if name in taken or name.startswith("__")], [], path)
+
+    def test_words_that_are_not_used(self):
+        barred = re.compile(r"\b(typing|enum|Enum|Protocol|ABC|namedtuple|register|elements|mro|breakpoint|locals)\b"
+                            "|dataclass|overload|contextmanager|_wall")
+        for path in FILES:
+            self.assertIsNone(barred.search(path.read_text()), path)
+
+
+if __name__ == "__main__":
+    unittest.main()

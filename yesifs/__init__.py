@@ -1,0 +1,1 @@
+"""Yesifs: transactions over several sites, with votes on conditions."""
