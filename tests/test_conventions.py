@@ -4,16 +4,41 @@ import copy
 import inspect
 import unittest
 
+from tests.test_runs import SPLIT
 from tests.things import CELLS, SOME, plain_things
-from yesifs import errors, facts, tables
+from yesifs import errors, facts, judge, parts, runs, sites, tables
 
 INTERFACE = {
     tables: {"is_table": ["thing"], "does_conflict": ["table", "one", "other"], "is_coarser": ["table", "other"]},
     facts: {"is_fact": ["thing"], "are_facts": ["thing"], "fate": ["facts", "t"], "kept_by": ["facts"],
             "dropped_by": ["facts"], "open_by": ["facts"], "judge_fate": ["facts", "t"],
             "fate_holds": ["facts", "t", "thing"], "needed": ["facts", "t"]},
+    parts: {"merged": ["one", "other"], "are_same_fates": ["one", "other"], "reason": ["facts", "t"],
+            "is_reason": ["facts", "t", "thing"]},
+    sites: {"is_history": ["table", "thing"], "is_event": ["table", "history", "thing"],
+            "state_of": ["table", "history", "t"], "known_kept": ["table", "history"], "lost": ["table", "history"],
+            "word_of": ["table", "history"], "outcomes": ["table", "history"],
+            "settled": ["table", "history", "outcome"]},
+    judge: {"is_right_now": ["table", "history"], "is_right": ["table", "history"],
+            "judge_history": ["table", "history"], "history_holds": ["table", "history", "thing"],
+            "supports": ["table", "history"], "full_conditions": ["table", "history", "u"],
+            "least_conditions": ["table", "history", "u"], "is_sufficient": ["table", "history", "u", "thing"]},
+    runs: {"is_run": ["table", "thing"], "site_history": ["table", "run", "s"], "facts_of": ["table", "run"],
+           "completions": ["table", "run"], "judge_run": ["table", "run", "completion"],
+           "run_holds": ["table", "run", "completion", "thing"], "is_right_run": ["table", "run"],
+           "are_sites_right": ["table", "run"]},
 }
-GOOD = {"thing": ("kept", (1,)), "table": CELLS, "one": "add", "other": "get", "facts": SOME, "t": 3}
+HISTORY = (("do", 1, "add"), ("do", 2, "get"), ("do", 3, "get"), ("yes", 1, ()))
+GOOD = {"thing": ("kept", (1,)), "table": CELLS, "one": "add", "other": "get", "facts": SOME, "t": 2, "u": 3,
+        "history": HISTORY, "outcome": (1, 2), "run": SPLIT, "s": 1,
+        "completion": (("firm", 1, (2, 3)), ("dropped", 2), ("dropped", 3))}
+
+
+BAD = {"table": errors.BadTable, "facts": errors.BadFacts, "t": errors.BadTransaction, "u": errors.BadTransaction,
+       "history": errors.BadHistory, "run": errors.BadRun, "outcome": errors.BadOutcome, "s": errors.BadSite,
+       "completion": errors.BadCompletion, "one": errors.BadKind, "other": errors.BadKind}
+# Functions of two values of one kind.
+PAIRS = {tables.is_coarser: errors.BadTable, parts.merged: errors.BadFacts, parts.are_same_fates: errors.BadFacts}
 
 
 def listed():
@@ -22,6 +47,8 @@ def listed():
 
 
 def good_for(function, parameter):
+    if function in (parts.merged, parts.are_same_fates):
+        return SOME
     return CELLS if function is tables.is_coarser else GOOD[parameter]
 
 
@@ -31,6 +58,12 @@ def result(function, values):
         return ("result", function(**values))
     except errors.YesError as error:
         return (error.__class__, vars(error))
+
+
+def is_plain(thing):
+    """Whether a result consists of integers, strings, bools, None and tuples."""
+    return type(thing) in (int, str, bool, type(None)) or (
+        type(thing) is tuple and all(is_plain(part) for part in thing))
 
 
 class Conventions(unittest.TestCase):
@@ -63,7 +96,8 @@ class Conventions(unittest.TestCase):
                     self.assertEqual(result(function, values), first)
 
     def test_lists_and_dicts_stay_as_they_are(self):
-        for thing in ([("firm", 1, [])], {"a": [1]}, ([1], {2: [3]}), ("kept", [1]), ("open", [("firm", 7, ())], {})):
+        for thing in ([("firm", 1, [])], {"a": [1]}, ([1], {2: [3]}), ("kept", [1]), ("open", [("firm", 7, ())], {}),
+                      [("do", 1, "add")], (["do", 1, "add"],), ("yes", 1, [2]), ([0, ("fall",)],), ("serial", [1])):
             for function, parameters in listed():
                 for parameter in parameters:
                     values = {other: good_for(function, other) for other in parameters}
@@ -89,6 +123,20 @@ class Conventions(unittest.TestCase):
             self.assertIs(type(facts.needed(SOME, t)), tuple)
             thing = facts.judge_fate(SOME, t)
             self.assertEqual({type(thing), *[type(part) for part in thing[1:]]}, {tuple})
+
+    def test_results_contain_no_lists(self):
+        for function, parameters in listed():
+            found = function(**{parameter: good_for(function, parameter) for parameter in parameters})
+            self.assertTrue(is_plain(found), (function.__name__, found))
+
+    def test_each_bad_value_is_named_before_those_behind_it(self):
+        for function, parameters in listed():
+            for at, parameter in enumerate(parameters):
+                if parameter != "thing":
+                    values = {other: good_for(function, other) for other in parameters[:at]}
+                    values.update({other: "bad" for other in parameters[at:]})
+                    expected = PAIRS.get(function, BAD[parameter])
+                    self.assertEqual(result(function, values), (expected, {"thing": "bad"}), function.__name__)
 
     def test_the_first_error_is_raised(self):
         for call, error, thing in [

@@ -2,7 +2,14 @@
 
 import unittest
 
+from yesifs.errors import Clash
 from yesifs.facts import are_facts, dropped_by, fate, fate_holds, judge_fate, kept_by, needed, open_by
+from yesifs.judge import (full_conditions, history_holds, is_right, is_right_now, is_sufficient, judge_history,
+                          least_conditions, supports)
+from yesifs.parts import are_same_fates, is_reason, merged, reason
+from yesifs.runs import (are_sites_right, completions, facts_of, is_right_run, is_run, judge_run, run_holds,
+                         site_history)
+from yesifs.sites import is_event, is_history, known_kept, lost, outcomes, settled, state_of, word_of
 from yesifs.tables import does_conflict, is_coarser, is_table
 
 
@@ -24,6 +31,64 @@ class Examples(unittest.TestCase):
             [judge_fate(SOME, 2), judge_fate(SOME, 5), fate(SOME, 6), fate_holds(SOME, 8, ("dropped", (8, 9, 8))),
              fate_holds(SOME, 3, ("open", (("firm", 7, ()),), (("dropped", 7),)))],
             [('kept', (1, 2)), ('dropped', (5, 4)), 'open', True, True])
+
+    def test_parts(self):
+        SOME = (("firm", 1, ()), ("firm", 2, (1,)), ("dropped", 4), ("firm", 5, (2, 4)))
+        self.assertEqual(
+            [merged(SOME[:2], SOME[1:3]), reason(SOME, 2), reason(SOME, 5), is_reason(SOME, 5, SOME),
+             are_same_fates((("dropped", 3), ("firm", 6, (3,))), (("dropped", 3), ("dropped", 6)))],
+            [(('firm', 1, ()), ('firm', 2, (1,)), ('dropped', 4)), (('firm', 1, ()), ('firm', 2, (1,))),
+             (('dropped', 4), ('firm', 5, (2, 4))), False, True])
+        with self.assertRaises(Clash) as caught:
+            merged((("dropped", 3),), (("firm", 3, ()),))
+        self.assertEqual(caught.exception.t, 3)
+
+    def test_sites(self):
+        CELLS = (("add", "get"), (("add", "get"),))
+        LENT = (("do", 1, "add"), ("do", 2, "get"), ("yes", 2, (1,)), ("yes", 1, ()))
+        self.assertEqual(
+            [is_history(CELLS, LENT), outcomes(CELLS, LENT), settled(CELLS, LENT, (1,)), settled(CELLS, LENT, ()),
+             state_of(CELLS, LENT, 2), state_of(CELLS, LENT[:3] + (("fall",),), 2)],
+            [True, ((), (1,), (1, 2)), ((0, 1), (1, 1), (1, -1)), ((0, 1), (1, 1), (1, -1), (0, -1)), 'voted', 'lost'])
+        HEARD = LENT + (("hear", ("firm", 1, ())), ("hear", ("firm", 2, (1,))))
+        self.assertEqual(
+            [known_kept(CELLS, HEARD), outcomes(CELLS, HEARD), word_of(CELLS, LENT[:3] + (("fall",),)),
+             lost(CELLS, LENT[:3] + (("fall",),)), is_event(CELLS, LENT, ("hear", ("firm", 2, ())))],
+            [(1, 2), ((1, 2),), ((0, 1), (1, 1), (1, -1), (0, -1)), (1, 2), False])
+
+    def test_judge(self):
+        CELLS = (("add", "get"), (("add", "get"),))
+        BUILT = (("do", 1, "add"), ("do", 2, "get"), ("do", 3, "add"))
+        self.assertEqual(
+            [supports(CELLS, BUILT), full_conditions(CELLS, BUILT, 3), full_conditions(CELLS, BUILT, 2),
+             least_conditions(CELLS, BUILT, 3), is_sufficient(CELLS, BUILT, 2, ())],
+            [((1, 2), (2, 3)), (2,), (1,), (2,), False])
+        BARE = (("do", 1, "add"), ("do", 2, "get"), ("yes", 2, ()))
+        self.assertEqual(
+            [judge_history(CELLS, BARE), is_right_now(CELLS, BARE),
+             is_right(CELLS, BUILT + (("yes", 3, (2,)), ("yes", 1, ()), ("yes", 2, (1,))))],
+            [('wrong', 2, ('vote', 2, 1)), False, True])
+        EARLY = (("do", 1, "add"), ("do", 2, "get"), ("no", 1), ("back", 1, 0))
+        self.assertEqual(
+            [judge_history(CELLS, EARLY), history_holds(CELLS, EARLY, ("wrong", 3, ("back", 0, 1))),
+             is_right(CELLS, EARLY[:3] + (("fall",),))],
+            [('wrong', 3, ('back', 0, 1)), True, True])
+
+    def test_runs(self):
+        CELLS = (("add", "get"), (("add", "get"),))
+        CROSS = ((0, ("do", 1, "add")), (0, ("do", 2, "get")), (1, ("do", 2, "add")), (1, ("do", 1, "get")),
+                 (0, ("yes", 1, ())), (0, ("yes", 2, (1,))), (1, ("yes", 1, (2,))), (1, ("yes", 2, ())))
+        self.assertEqual(
+            [is_run(CELLS, CROSS), site_history(CELLS, CROSS, 1)[:2], completions(CELLS, CROSS)[-1],
+             judge_run(CELLS, CROSS, completions(CELLS, CROSS)[-1]), are_sites_right(CELLS, CROSS),
+             is_right_run(CELLS, CROSS)],
+            [True, (('do', 2, 'add'), ('do', 1, 'get')), (('firm', 1, (2,)), ('firm', 2, (1,))), ('serial', ()), True,
+             True])
+        WORSE = CROSS[:5] + ((0, ("yes", 2, ())), (1, ("yes", 1, ())), (1, ("yes", 2, ())))
+        self.assertEqual(
+            [run_holds(CELLS, WORSE, (("firm", 1, ()), ("firm", 2, ())), ("ring", (1, 2))),
+             are_sites_right(CELLS, WORSE), facts_of(CELLS, WORSE)],
+            [True, False, ()])
 
 
 if __name__ == "__main__":

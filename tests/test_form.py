@@ -88,6 +88,30 @@ class Form(unittest.TestCase):
             self.assertNotIn(made, ("set", "frozenset"), path)
             self.assertNotIsInstance(node.iter, (ast.Set, ast.SetComp, ast.BinOp), path)
 
+    def test_sets_and_combinations_stand_only_where_they_may(self):
+        for path, tree in TREES.items():
+            above = {child: node for node in ast.walk(tree) for child in ast.iter_child_nodes(node)}
+            for node in ast.walk(tree):
+                called = node.func.id if isinstance(node, ast.Call) and isinstance(node.func, ast.Name) else ""
+                if called == "set" or isinstance(node, (ast.Set, ast.SetComp)):
+                    around = above[node]
+                    while isinstance(around, ast.BinOp):
+                        around = above[around]
+                    self.assertIsInstance(around, (ast.Call, ast.Compare), (path.name, node.lineno))
+                    if isinstance(around, ast.Call):
+                        self.assertIn(ast.unparse(around.func), ("sorted", "len"), (path.name, node.lineno))
+                        self.assertEqual((len(around.args), around.keywords), (1, []), (path.name, node.lineno))
+                if called in ("combinations", "permutations", "product"):
+                    self.assertIsInstance(above[node], (ast.For, ast.comprehension), (path.name, node.lineno))
+
+    def test_no_two_of_a_method_an_attribute_and_a_class_value_share_a_name(self):
+        for path, node in nodes(ast.ClassDef):
+            methods = [part.name for part in node.body if isinstance(part, ast.FunctionDef)]
+            self.assertEqual(len(set(methods)), len(methods), node.name)
+            assigned = {part.attr for part in ast.walk(node) if isinstance(part, ast.Attribute)
+                        and isinstance(part.ctx, ast.Store)}
+            self.assertFalse(assigned & (set(methods) | PLAIN_METHODS), node.name)
+
     def test_no_name_hides_a_builtin_a_class_or_an_import(self):
         for path, tree in TREES.items():
             taken = {alias.name for node in tree.body if isinstance(node, ast.ImportFrom) for alias in node.names}

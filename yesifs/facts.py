@@ -112,13 +112,13 @@ def open_by(facts):
     return with_fate(facts, "open")
 
 
-def reached_from(firm, t):
-    """The ascending list of t and all to which it leads by the conditions of firm transactions."""
-    found = {t: True}
-    waiting = [t]
+def reached_from(conditions, start):
+    """The ascending list of all to which the transactions of start lead by conditions, these included."""
+    found = {u: True for u in start}
+    waiting = list(start)
     while waiting:
         here = waiting.pop()
-        for u in firm.get(here, ()):
+        for u in conditions.get(here, ()):
             if u not in found:
                 found[u] = True
                 waiting.append(u)
@@ -130,7 +130,7 @@ def missing_for(facts, t):
     # What an open t leads to is open or kept, and what is kept leads only to what is kept,
     # so each way to a transaction without a fact goes through open transactions.
     owners = owners_of(facts)
-    return tuple([u for u in reached_from(firm_by(facts), t) if u not in owners])
+    return tuple([u for u in reached_from(firm_by(facts), [t]) if u not in owners])
 
 
 def needed(facts, t):
