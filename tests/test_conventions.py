@@ -4,9 +4,12 @@ import copy
 import inspect
 import unittest
 
+from tests.test_judge import BARE
+from tests.test_logs import LOG
 from tests.test_runs import SPLIT
+from tests.test_tokens import THREE
 from tests.things import CELLS, SOME, plain_things
-from yesifs import errors, facts, judge, parts, runs, sites, tables
+from yesifs import errors, facts, judge, logs, parts, runs, sending, sites, tables, tokens
 
 INTERFACE = {
     tables: {"is_table": ["thing"], "does_conflict": ["table", "one", "other"], "is_coarser": ["table", "other"]},
@@ -27,16 +30,34 @@ INTERFACE = {
            "completions": ["table", "run"], "judge_run": ["table", "run", "completion"],
            "run_holds": ["table", "run", "completion", "thing"], "is_right_run": ["table", "run"],
            "are_sites_right": ["table", "run"]},
+    tokens: {"is_store": ["table", "history", "thing"], "result": ["table", "history", "store", "word"],
+             "store_against": ["table", "history"], "does_show": ["table", "history", "outcome", "thing"],
+             "weakened": ["table", "history", "u", "conditions"]},
+    logs: {"is_operation": ["thing"], "kind_of": ["operation"], "key_table": ["keys"], "is_log": ["thing"],
+           "history_of": ["log"], "table_of": ["log"], "values": ["log"], "do_row": ["log", "t", "operation"],
+           "yes_row": ["log", "t"], "refuse_rows": ["log", "some"], "settle_rows": ["log"], "restart_rows": ["log"],
+           "answer_of": ["log", "i"]},
+    sending: {"is_state": ["many", "here", "thing"], "new_state": ["many", "here"], "is_message": ["many", "thing"],
+              "goes_to": ["many", "message"], "leader_of": ["many", "t"],
+              "received": ["many", "here", "state", "message"], "fallen": ["many", "here", "state", "rows"],
+              "restarted": ["many", "here", "state"]},
 }
 HISTORY = (("do", 1, "add"), ("do", 2, "get"), ("do", 3, "get"), ("yes", 1, ()))
 GOOD = {"thing": ("kept", (1,)), "table": CELLS, "one": "add", "other": "get", "facts": SOME, "t": 2, "u": 3,
         "history": HISTORY, "outcome": (1, 2), "run": SPLIT, "s": 1,
-        "completion": (("firm", 1, (2, 3)), ("dropped", 2), ("dropped", 3))}
-
+        "completion": (("firm", 1, (2, 3)), ("dropped", 2), ("dropped", 3)), "store": THREE, "word": ((0, 1), (1, -1)),
+        "conditions": (), "operation": ("add", "x", 5), "keys": ("x", "y"), "log": LOG, "some": (1,), "i": 1,
+        "many": 2, "here": 0, "state": (LOG, 1, ((2, ((0, 1),), (), True),)), "message": ("vote", 2, 0, (1,)), "rows": 2}
+# What a function needs instead: a history that is wrong.
+OTHERS = {(tokens.store_against, "history"): BARE, (tokens.result, "history"): BARE, (tokens.does_show, "history"): BARE}
 
 BAD = {"table": errors.BadTable, "facts": errors.BadFacts, "t": errors.BadTransaction, "u": errors.BadTransaction,
        "history": errors.BadHistory, "run": errors.BadRun, "outcome": errors.BadOutcome, "s": errors.BadSite,
-       "completion": errors.BadCompletion, "one": errors.BadKind, "other": errors.BadKind}
+       "completion": errors.BadCompletion, "one": errors.BadKind, "other": errors.BadKind, "store": errors.BadStore,
+       "word": errors.BadWord, "conditions": errors.BadConditions, "operation": errors.BadOperation,
+       "keys": errors.BadKeys, "log": errors.BadLog, "some": errors.BadTransactions, "i": errors.BadStep,
+       "many": errors.BadMany, "here": errors.BadSite, "state": errors.BadState, "message": errors.BadMessage,
+       "rows": errors.BadRows}
 # Functions of two values of one kind.
 PAIRS = {tables.is_coarser: errors.BadTable, parts.merged: errors.BadFacts, parts.are_same_fates: errors.BadFacts}
 
@@ -49,7 +70,9 @@ def listed():
 def good_for(function, parameter):
     if function in (parts.merged, parts.are_same_fates):
         return SOME
-    return CELLS if function is tables.is_coarser else GOOD[parameter]
+    if function is tables.is_coarser:
+        return CELLS
+    return OTHERS.get((function, parameter), GOOD[parameter])
 
 
 def result(function, values):
@@ -97,7 +120,8 @@ class Conventions(unittest.TestCase):
 
     def test_lists_and_dicts_stay_as_they_are(self):
         for thing in ([("firm", 1, [])], {"a": [1]}, ([1], {2: [3]}), ("kept", [1]), ("open", [("firm", 7, ())], {}),
-                      [("do", 1, "add")], (["do", 1, "add"],), ("yes", 1, [2]), ([0, ("fall",)],), ("serial", [1])):
+                      [("do", 1, "add")], (["do", 1, "add"],), ("yes", 1, [2]), ([0, ("fall",)],), ("serial", [1]),
+                      (3, [(1, 0, 2)]), (["get", "x"],), (LOG, 0, [[2, [], [], False]]), ["what", 2], ("vote", 2, 0, [1])):
             for function, parameters in listed():
                 for parameter in parameters:
                     values = {other: good_for(function, other) for other in parameters}

@@ -2,15 +2,19 @@
 
 import unittest
 
-from yesifs.errors import Clash
+from yesifs.errors import Clash, IsRight
 from yesifs.facts import are_facts, dropped_by, fate, fate_holds, judge_fate, kept_by, needed, open_by
 from yesifs.judge import (full_conditions, history_holds, is_right, is_right_now, is_sufficient, judge_history,
                           least_conditions, supports)
+from yesifs.logs import (answer_of, do_row, history_of, is_log, kind_of, refuse_rows, settle_rows, values,
+                         yes_row)
 from yesifs.parts import are_same_fates, is_reason, merged, reason
 from yesifs.runs import (are_sites_right, completions, facts_of, is_right_run, is_run, judge_run, run_holds,
                          site_history)
+from yesifs.sending import fallen, goes_to, received, restarted
 from yesifs.sites import is_event, is_history, known_kept, lost, outcomes, settled, state_of, word_of
 from yesifs.tables import does_conflict, is_coarser, is_table
+from yesifs.tokens import does_show, is_store, result, store_against, weakened
 
 
 class Examples(unittest.TestCase):
@@ -89,6 +93,43 @@ class Examples(unittest.TestCase):
             [run_holds(CELLS, WORSE, (("firm", 1, ()), ("firm", 2, ())), ("ring", (1, 2))),
              are_sites_right(CELLS, WORSE), facts_of(CELLS, WORSE)],
             [True, False, ()])
+
+    def test_tokens(self):
+        CELLS = (("add", "get"), (("add", "get"),))
+        BARE = (("do", 1, "add"), ("do", 2, "get"), ("yes", 2, ()))
+        THREE = (3, ((1, 0, 2), (0, 2, 1), (0, 1, 2)))
+        self.assertEqual(
+            [is_store(CELLS, BARE, THREE), result(CELLS, BARE, THREE, ((0, 1), (1, 1))),
+             does_show(CELLS, BARE, (2,), THREE), store_against(CELLS, BARE)[0], weakened(CELLS, BARE[:2], 2, ())[0]],
+            [True, (1, 2, 0), True, (2,), (2,)])
+        with self.assertRaises(IsRight):
+            store_against(CELLS, BARE[:2])
+
+    def test_logs(self):
+        LOG = (("do", 1, ("add", "x", 5), 0), ("do", 2, ("get", "x"), 5), ("do", 3, ("add", "y", 1), 0))
+        self.assertEqual(
+            [is_log(LOG), kind_of(("set", "x", 7)), history_of(LOG), values(LOG), answer_of(LOG, 1), yes_row(LOG, 2),
+             do_row(LOG, 3, ("set", "x", 8))],
+            [True, 'sx', (('do', 1, 'ax'), ('do', 2, 'gx'), ('do', 3, 'ay')), (('x', 5), ('y', 1)), 5,
+             ('yes', 2, (1,)), ('do', 3, ('set', 'x', 8), 5)])
+        self.assertEqual(
+            [refuse_rows(LOG, (1,)), refuse_rows(LOG + (("yes", 2, (1,)),), (1,)), settle_rows(LOG),
+             values(LOG + refuse_rows(LOG, (1,)))],
+            [(('no', 1), ('no', 2), ('back', 2, 1), ('back', 1, 0)), (('no', 1), ('back', 2, 1), ('back', 1, 0)), (),
+             (('y', 1),)])
+
+    def test_sending(self):
+        LOG = (("do", 1, ("add", "x", 5), 0), ("do", 2, ("get", "x"), 5))
+        STATE, OUT = received(2, 0, (LOG, 0, ()), ("ask", 2, 0, 1))
+        self.assertEqual(
+            [STATE, OUT, goes_to(2, OUT[0]), received(2, 0, STATE, ("ask", 1, 0, 2))[1]],
+            [((('do', 1, ('add', 'x', 5), 0), ('do', 2, ('get', 'x'), 5), ('yes', 2, (1,))), 3, ()),
+             (('vote', 2, 0, (1,)),), 0, (('vote', 1, 0, None),)])
+        self.assertEqual(
+            [fallen(2, 0, (LOG, 1, ()), 1), restarted(2, 0, fallen(2, 0, STATE, 3))[0][3:],
+             received(2, 0, STATE, ("what", 2))[1]],
+            [((('do', 1, ('add', 'x', 5), 0),), 1, ()), (('no', 1), ('back', 2, 1), ('back', 1, 0)),
+             (('tell', ('dropped', 2), 1),)])
 
 
 if __name__ == "__main__":

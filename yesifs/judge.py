@@ -4,19 +4,25 @@ from itertools import combinations
 
 from yesifs.checks import is_number
 from yesifs.facts import closed, reached_from
-from yesifs.moments import (Moment, check_active, checked_moment, full_at, happen, heard_firm, kept_at, leads_at,
-                            lost_at, may_vote, supporters)
+from yesifs.moments import (Moment, check_active, checked_moment, full_at, happen, heard_firm, kept_at, later_rivals,
+                            leads_at, lost_at, may_vote, supporters)
 from yesifs.sites import outcomes_at
 from yesifs.words import is_cleared, serial_order, supports_at
 
 
+def led_from(leads, outcome):
+    """A dict of the list of the others in the outcome to which each transaction of it leads by conditions."""
+    return {u: [t for t in reached_from(leads, [u]) if t in outcome and t != u] for u in outcome}
+
+
+def with_helpers(led, helpers):
+    """The dict of these lists, with the supporters among its keys put into each of them."""
+    return {u: before + [t for t in helpers[u] if t in led] for u, before in led.items()}
+
+
 def has_allowed_order(helpers, leads, outcome):
     """Whether some allowed order of the outcome has each transaction after its supporters."""
-    earlier = {}
-    for u in outcome:
-        before = reached_from(leads, [u]) + list(helpers[u])
-        earlier[u] = [t for t in before if t in outcome and t != u]
-    return serial_order(earlier) is not None
+    return serial_order(with_helpers(led_from(leads, outcome), helpers)) is not None
 
 
 def is_right_now(table, history):
@@ -52,8 +58,7 @@ def faults_of(moment, event):
     if event[0] == "yes":
         return [("vote", event[1], t) for t in unmet_supporters(moment, event[1], event[2])]
     if event[0] == "back":
-        i = event[2]
-        return [("back", i, j) for j in moment.rivals[i] if j > i and j not in moment.back]
+        return [("back", event[2], j) for j in later_rivals(moment, event[2])]
     return []
 
 

@@ -193,14 +193,20 @@ def concerned_at(moment):
     return sorted(set(list(moment.steps_of) + named_by(list(moment.heard.values()))))
 
 
-def lost_at(moment):
-    """A dict of True for the lost transactions."""
+def lost_if(moment, more):
+    """A dict of True for the transactions that are lost once more with steps here are voted against."""
     sworn = sworn_at(moment)
     named = concerned_at(moment) + list(moment.no)
-    refused = [t for t in named if t in moment.no or t in moment.fallen or moment.heard.get(t) == ("dropped", t)]
+    refused = [t for t in named if t in more or t in moment.no or t in moment.fallen
+               or moment.heard.get(t) == ("dropped", t)]
     # A transaction is lost if it leads to a refused one, or on without end, and that is, into a ring.
     hopeful = closed({t: sworn.get(t, ()) for t in named if t not in refused}, [])
     return {t: True for t in named if t not in hopeful}
+
+
+def lost_at(moment):
+    """A dict of True for the lost transactions."""
+    return lost_if(moment, [])
 
 
 def supporters(moment, u):
@@ -210,6 +216,11 @@ def supporters(moment, u):
         if j not in moment.back:
             found += [moment.steps[i][0] for i in moment.rivals[j] if i < j and i not in moment.back]
     return tuple([t for t in sorted(set(found)) if t != u])
+
+
+def later_rivals(moment, i):
+    """The list of the later steps that conflict with the step i and are not taken back."""
+    return [j for j in moment.rivals[i] if j > i and j not in moment.back]
 
 
 def full_at(moment, u):

@@ -7,7 +7,7 @@ from yesifs.judge import first_faults
 from yesifs.moments import Moment, happen, is_possible
 from yesifs.sites import all_choices
 from yesifs.tables import check_table
-from yesifs.words import is_cleared, serial_order, supports_at
+from yesifs.words import is_cleared, ring_in, serial_order, supports_at
 
 
 class Course:
@@ -168,16 +168,6 @@ def earlier_among(helpers, kept):
 def is_serial_at(course, helpers, kept, s):
     """Whether the settled word of the site s is the serial word of its kept transactions in some order."""
     return is_cleared(course.moments[s], kept) and serial_order(earlier_among([helpers[s]], kept)) is not None
-
-
-def ring_in(earlier):
-    """A tuple of different keys each of which the dict names for the next one, where there is no serial order."""
-    order = closed(earlier, [])
-    way = [[u for u in earlier if u not in order][0]]
-    while way[-1] not in way[:-1]:
-        way.append([t for t in earlier[way[-1]] if t not in order][0])
-    # The way goes from each transaction to one before it.
-    return tuple(way[:way.index(way[-1]):-1])
 
 
 def judge_course(course, helpers, kept):

@@ -53,3 +53,13 @@ def serial_order(earlier):
     """
     order = list(closed(earlier, []))
     return order if len(order) == len(earlier) else None
+
+
+def ring_in(earlier):
+    """A tuple of different keys each of which the dict names for the next one, where there is no serial order."""
+    order = closed(earlier, [])
+    way = [[u for u in earlier if u not in order][0]]
+    while way[-1] not in way[:-1]:
+        way.append([t for t in earlier[way[-1]] if t not in order][0])
+    # The way goes from each transaction to one before it.
+    return tuple(way[:way.index(way[-1]):-1])
