@@ -6,10 +6,14 @@ import unittest
 
 from tests.test_judge import BARE
 from tests.test_logs import LOG
+from tests.test_benches import LINES
+from tests.test_cascades import SCRIPT
 from tests.test_runs import SPLIT
+from tests.test_stores import FIRM, after, seen
 from tests.test_tokens import THREE
 from tests.things import CELLS, SOME, plain_things
-from yesifs import errors, facts, judge, logs, parts, runs, sending, sites, tables, tokens
+from yesifs import (benches, cascades, errors, facts, judge, logs, parts, runs, sending, sites, stores, tables, tokens,
+                    views)
 
 INTERFACE = {
     tables: {"is_table": ["thing"], "does_conflict": ["table", "one", "other"], "is_coarser": ["table", "other"]},
@@ -41,15 +45,28 @@ INTERFACE = {
               "goes_to": ["many", "message"], "leader_of": ["many", "t"],
               "received": ["many", "here", "state", "message"], "fallen": ["many", "here", "state", "rows"],
               "restarted": ["many", "here", "state"]},
+    cascades: {"cascade": ["log", "t"], "is_script": ["thing"], "log_of": ["script", "interleaving"],
+               "greatest_cascade": ["script", "t"], "waits": ["script", "interleaving"]},
+    views: {"store_table": ["store"], "store_run": ["store"], "serial_order": ["store"],
+            "order_holds": ["store", "thing"]},
+    benches: {"store_after": ["many", "orders"], "read_text": ["text"]},
+}
+CLASSES = {
+    stores.Store: {"__init__": ["many"], "do": ["order"], "is_possible": ["thing"], "state": ["site"], "is_up": ["site"],
+                   "sent": [], "started": [], "facts": [], "close": [], "copied": []},
+    benches.Bench: {"__init__": ["many"], "do": ["order"], "undo": [], "redo": [], "store": [], "orders": [],
+                    "text": []},
 }
 HISTORY = (("do", 1, "add"), ("do", 2, "get"), ("do", 3, "get"), ("yes", 1, ()))
 GOOD = {"thing": ("kept", (1,)), "table": CELLS, "one": "add", "other": "get", "facts": SOME, "t": 2, "u": 3,
         "history": HISTORY, "outcome": (1, 2), "run": SPLIT, "s": 1,
         "completion": (("firm", 1, (2, 3)), ("dropped", 2), ("dropped", 3)), "store": THREE, "word": ((0, 1), (1, -1)),
         "conditions": (), "operation": ("add", "x", 5), "keys": ("x", "y"), "log": LOG, "some": (1,), "i": 1,
-        "many": 2, "here": 0, "state": (LOG, 1, ((2, ((0, 1),), (), True),)), "message": ("vote", 2, 0, (1,)), "rows": 2}
-# What a function needs instead: a history that is wrong.
-OTHERS = {(tokens.store_against, "history"): BARE, (tokens.result, "history"): BARE, (tokens.does_show, "history"): BARE}
+        "many": 2, "here": 0, "state": (LOG, 1, ((2, ((0, 1),), (), True),)), "message": ("vote", 2, 0, (1,)), "rows": 2,
+        "script": SCRIPT, "interleaving": (3, 1, 2, 2), "orders": FIRM, "text": "\n".join(LINES)}
+# What a function needs instead: a history that is wrong, or a Store and no token store.
+OTHERS = {(tokens.store_against, "history"): BARE, (tokens.result, "history"): BARE, (tokens.does_show, "history"): BARE,
+          (cascades.cascade, "t"): 1, **{(getattr(views, name), "store"): after(*FIRM) for name in INTERFACE[views]}}
 
 BAD = {"table": errors.BadTable, "facts": errors.BadFacts, "t": errors.BadTransaction, "u": errors.BadTransaction,
        "history": errors.BadHistory, "run": errors.BadRun, "outcome": errors.BadOutcome, "s": errors.BadSite,
@@ -57,7 +74,8 @@ BAD = {"table": errors.BadTable, "facts": errors.BadFacts, "t": errors.BadTransa
        "word": errors.BadWord, "conditions": errors.BadConditions, "operation": errors.BadOperation,
        "keys": errors.BadKeys, "log": errors.BadLog, "some": errors.BadTransactions, "i": errors.BadStep,
        "many": errors.BadMany, "here": errors.BadSite, "state": errors.BadState, "message": errors.BadMessage,
-       "rows": errors.BadRows}
+       "rows": errors.BadRows, "script": errors.BadScript, "interleaving": errors.BadInterleaving,
+       "orders": errors.BadOrders}
 # Functions of two values of one kind.
 PAIRS = {tables.is_coarser: errors.BadTable, parts.merged: errors.BadFacts, parts.are_same_fates: errors.BadFacts}
 
@@ -73,6 +91,14 @@ def good_for(function, parameter):
     if function is tables.is_coarser:
         return CELLS
     return OTHERS.get((function, parameter), GOOD[parameter])
+
+
+def odd_values():
+    """Values of all kinds, objects of the package and parts of them among them."""
+    return plain_things() + [
+        stores.Store(2), after(*FIRM), benches.Bench(2), (stores.Store(2),), [benches.Bench(2)], (3, stores.Store(3)),
+        ("do", 1, stores.Store(1)), (("do", 1, stores.Store(1), 0),), ("deliver", stores.Store(2)), (stores.Store(1), 0, ()),
+        ("tell", stores.Store(1), 0), (("hear", stores.Store(1)),), (stores.Store(1), 1), {1: stores.Store(1)}]
 
 
 def result(function, values):
@@ -110,7 +136,7 @@ class Conventions(unittest.TestCase):
     def test_any_values_change_nothing_and_give_the_same_again(self):
         for function, parameters in listed():
             for parameter in parameters:
-                for thing in plain_things():
+                for thing in odd_values():
                     values = {other: good_for(function, other) for other in parameters}
                     values[parameter] = thing
                     before = repr(values)
@@ -132,7 +158,7 @@ class Conventions(unittest.TestCase):
     def test_true_and_false(self):
         for function, parameters in listed():
             if function.__name__.startswith(("is_", "are_", "may_", "does_")) or function.__name__.endswith("_holds"):
-                for thing in plain_things():
+                for thing in odd_values():
                     values = {other: good_for(function, other) for other in parameters}
                     values[parameters[-1]] = thing
                     found = result(function, values)
@@ -151,12 +177,12 @@ class Conventions(unittest.TestCase):
     def test_results_contain_no_lists(self):
         for function, parameters in listed():
             found = function(**{parameter: good_for(function, parameter) for parameter in parameters})
-            self.assertTrue(is_plain(found), (function.__name__, found))
+            self.assertTrue(is_plain(found) or function is benches.store_after, (function.__name__, found))
 
     def test_each_bad_value_is_named_before_those_behind_it(self):
         for function, parameters in listed():
             for at, parameter in enumerate(parameters):
-                if parameter != "thing":
+                if parameter not in ("thing", "text"):
                     values = {other: good_for(function, other) for other in parameters[:at]}
                     values.update({other: "bad" for other in parameters[at:]})
                     expected = PAIRS.get(function, BAD[parameter])
@@ -179,6 +205,75 @@ class Conventions(unittest.TestCase):
             self.assertIs(type(caught.exception), error)
             self.assertEqual(caught.exception.thing, thing)
             self.assertIs(type(caught.exception.thing), type(thing))
+
+    def test_no_store_is_changed_by_a_function(self):
+        store = after(*FIRM)
+        before = seen(store)
+        for function, parameters in listed():
+            for parameter in parameters:
+                values = {other: good_for(function, other) for other in parameters}
+                values[parameter] = store
+                result(function, values)
+                self.assertEqual(seen(store), before, function.__name__)
+
+
+class Classes(unittest.TestCase):
+    def test_names_and_parameters(self):
+        for kind, methods in CLASSES.items():
+            self.assertEqual(kind.__bases__, (object,))
+            for name, parameters in methods.items():
+                # Defined in the class itself.
+                found = vars(kind)[name]
+                self.assertTrue(inspect.isfunction(found), name)
+                self.assertEqual(list(inspect.signature(found).parameters), ["self"] + parameters)
+                for parameter in inspect.signature(found).parameters.values():
+                    self.assertEqual(parameter.kind, parameter.POSITIONAL_OR_KEYWORD)
+                    self.assertIs(parameter.default, parameter.empty)
+        self.assertEqual([kind.__module__ for kind in CLASSES], ["yesifs.stores", "yesifs.benches"])
+
+    def test_any_values_change_nothing_and_give_the_same_again(self):
+        for make, look in ((lambda: after(*FIRM), seen), (self.bench, self.seen_of)):
+            for thing in odd_values():
+                held = make()
+                before = look(held)
+                for name in ("do", "is_possible", "state", "is_up"):
+                    if name in CLASSES[type(held)]:
+                        parameter = CLASSES[type(held)][name][0]
+                        first = result(getattr(held, name), {parameter: thing})
+                        if not (name in ("state", "is_up") and type(thing) is int and thing in (0, 1)):
+                            bad = errors.BadSite if name in ("state", "is_up") else errors.BadOrder
+                            expected = ("result", False) if name == "is_possible" else (bad, {"thing": thing})
+                            self.assertEqual(first, expected)
+                        self.assertEqual(look(held), before)
+
+    def bench(self):
+        bench = benches.Bench(2)
+        for order in FIRM:
+            bench.do(order)
+        return bench
+
+    def seen_of(self, bench):
+        return (bench.orders(), bench.text(), seen(bench.store()))
+
+    def test_results(self):
+        store, bench = after(*FIRM), self.bench()
+        for found in (store.state(0), store.is_up(0), store.sent(), store.started(), store.facts(), bench.orders(),
+                      bench.text(), store.is_possible(None), store.is_possible(("start", 9))):
+            self.assertTrue(is_plain(found), found)
+        self.assertIs(type(store.copied()), stores.Store)
+        self.assertIs(type(bench.store()), stores.Store)
+        for found in (bench.undo(), bench.redo(), bench.redo(), store.is_up(1)):
+            self.assertIs(type(found), bool)
+        self.assertIs(store.close(), None)
+
+    def test_only_some_methods_change_an_object(self):
+        store, bench = after(*FIRM), self.bench()
+        before, held = seen(store), self.seen_of(bench)
+        for _ in range(2):
+            store.is_possible(("start", 3)), store.state(0), store.is_up(0), store.sent(), store.started()
+            store.facts(), store.copied(), store == after(*FIRM), bench.store(), bench.orders(), bench.text()
+        self.assertEqual(seen(store), before)
+        self.assertEqual(self.seen_of(bench), held)
 
 
 if __name__ == "__main__":

@@ -2,7 +2,9 @@
 
 import unittest
 
-from yesifs.errors import Clash, IsRight
+from yesifs.benches import Bench, read_text, store_after
+from yesifs.cascades import cascade, greatest_cascade, log_of, waits
+from yesifs.errors import BadText, Clash, IsRight
 from yesifs.facts import are_facts, dropped_by, fate, fate_holds, judge_fate, kept_by, needed, open_by
 from yesifs.judge import (full_conditions, history_holds, is_right, is_right_now, is_sufficient, judge_history,
                           least_conditions, supports)
@@ -13,8 +15,10 @@ from yesifs.runs import (are_sites_right, completions, facts_of, is_right_run, i
                          site_history)
 from yesifs.sending import fallen, goes_to, received, restarted
 from yesifs.sites import is_event, is_history, known_kept, lost, outcomes, settled, state_of, word_of
+from yesifs.stores import Store
 from yesifs.tables import does_conflict, is_coarser, is_table
 from yesifs.tokens import does_show, is_store, result, store_against, weakened
+from yesifs.views import order_holds, serial_order, store_run, store_table
 
 
 class Examples(unittest.TestCase):
@@ -130,6 +134,49 @@ class Examples(unittest.TestCase):
              received(2, 0, STATE, ("what", 2))[1]],
             [((('do', 1, ('add', 'x', 5), 0),), 1, ()), (('no', 1), ('back', 2, 1), ('back', 1, 0)),
              (('tell', ('dropped', 2), 1),)])
+
+    def test_stores(self):
+        store = Store(2)
+        self.assertEqual(
+            [store.do(("start", 1)), store.do(("start", 2)), store.do(("do", 1, 0, ("add", "x", 5))),
+             store.do(("do", 2, 0, ("get", "x"))), store.do(("ask", 2)), store.sent()],
+            [None, None, 0, 5, None, (('ask', 2, 0, 1),)])
+        self.assertEqual(
+            [store.do(("deliver", ("ask", 2, 0, 1))), store.do(("deliver", ("vote", 2, 0, (1,)))), store.facts(),
+             store.do(("give", 1)), store.close(), store.facts(), store.state(0)[0][-2:]],
+            [None, None, (('firm', 2, (1,)),), None, None, (('dropped', 1), ('firm', 2, (1,))),
+             (('back', 2, 1), ('back', 1, 0))])
+
+    def test_cascades(self):
+        SCRIPT = ((1, (("add", "x", 5),)), (2, (("get", "x"), ("set", "y", 1))), (3, (("get", "y"),)))
+        self.assertEqual(
+            [log_of(SCRIPT, (1, 2, 2, 3)), cascade(log_of(SCRIPT, (1, 2, 2, 3)), 1),
+             cascade(log_of(SCRIPT, (3, 1, 2, 2)), 1), waits(SCRIPT, (3, 1, 2, 2)), greatest_cascade(SCRIPT, 1)],
+            [(('do', 1, ('add', 'x', 5), 0), ('do', 2, ('get', 'x'), 5), ('do', 2, ('set', 'y', 1), 0),
+              ('do', 3, ('get', 'y'), 1)), ((1, 2, 3), 4), ((1, 2), 3), ((0, 3), (1, 2)),
+             ((1, 2, 3), 4, (1, 2, 2, 3))])
+
+    def test_views(self):
+        STORE = store_after(2, (("start", 1), ("do", 1, 0, ("set", "x", 3)), ("ask", 1),
+                                ("deliver", ("ask", 1, 0, 1)), ("deliver", ("vote", 1, 0, ()))))
+        self.assertEqual(
+            [store_table(STORE), store_run(STORE), serial_order(STORE), order_holds(STORE, ())],
+            [(('ax', 'gx', 'sx'), (('ax', 'gx'), ('ax', 'sx'), ('gx', 'sx'), ('sx', 'sx'))),
+             ((0, ('do', 1, 'sx')), (0, ('yes', 1, ())), (1, ('hear', ('firm', 1, ())))), (1,), False])
+
+    def test_benches(self):
+        bench = Bench(2)
+        self.assertEqual(
+            [bench.do(("start", 1)), bench.do(("do", 1, 0, ("set", "x", 3))), bench.undo(), bench.redo(), bench.undo(),
+             bench.orders(), bench.text()],
+            [None, 0, True, True, True, (('start', 1),), 'sites 2\nstart 1'])
+        TEXT = "sites 2\nstart 1\ndo 1 0 set x 3\nask 1\ndeliver ask 1 0 1\ndeliver vote 1 0 -"
+        self.assertEqual(
+            [read_text(TEXT)[1][2:], store_after(2, read_text(TEXT)[1]).facts()],
+            [(('ask', 1), ('deliver', ('ask', 1, 0, 1)), ('deliver', ('vote', 1, 0, ()))), (('firm', 1, ()),)])
+        with self.assertRaises(BadText) as caught:
+            read_text("sites 2\nask 1")
+        self.assertEqual(caught.exception.at, 2)
 
 
 if __name__ == "__main__":

@@ -28,6 +28,19 @@ def nodes(kind):
     return [(path, node) for path, tree in TREES.items() for node in ast.walk(tree) if isinstance(node, kind)]
 
 
+def is_truth(node):
+    """Whether an expression is True or False as far as one sees, if the functions that it calls are so."""
+    if isinstance(node, ast.BoolOp):
+        return all(is_truth(part) for part in node.values)
+    if isinstance(node, ast.IfExp):
+        return is_truth(node.body) and is_truth(node.orelse)
+    if isinstance(node, ast.UnaryOp):
+        return isinstance(node.op, ast.Not)
+    if isinstance(node, ast.Constant):
+        return isinstance(node.value, bool)
+    return isinstance(node, (ast.Compare, ast.Call)) or isinstance(node, ast.Name) and node.id.startswith("is_")
+
+
 class Form(unittest.TestCase):
     def test_the_folder_holds_only_plain_files(self):
         self.assertIn(PACKAGE / "__init__.py", FILES)
@@ -70,6 +83,51 @@ class Form(unittest.TestCase):
             self.assertIsNotNone(ast.get_docstring(tree), path)
             for node in tree.body[1:]:
                 self.assertIsInstance(node, (ast.ImportFrom, ast.FunctionDef, ast.ClassDef, ast.Assign))
+
+    def test_what_is_not_used_here(self):
+        # Some of this is allowed, with rules of its own; without it there is nothing to check.
+        barred = (ast.GeneratorExp, ast.Lambda, ast.Try, ast.Global, ast.Nonlocal, ast.With, ast.Match, ast.Yield,
+                  ast.YieldFrom, ast.Starred, ast.NamedExpr, ast.Assert, ast.Delete, ast.AnnAssign)
+        self.assertEqual([(path.name, node.lineno) for path, node in nodes(barred)], [])
+        for path, node in nodes((ast.FunctionDef, ast.ClassDef)):
+            self.assertEqual(node.decorator_list, [], node.name)
+        for path, node in nodes(ast.FunctionDef):
+            inner = [part for part in ast.walk(node) if isinstance(part, ast.FunctionDef)]
+            self.assertEqual(inner, [node])
+            self.assertEqual((node.args.defaults, node.args.kwonlyargs, node.args.vararg, node.args.kwarg),
+                             ([], [], None, None), node.name)
+
+    def test_methods_and_attributes_of_the_package_have_different_names(self):
+        methods = {part.name for path, node in nodes(ast.ClassDef) for part in node.body
+                   if isinstance(part, ast.FunctionDef)}
+        assigned = {node.attr for path, node in nodes(ast.Attribute) if isinstance(node.ctx, ast.Store)}
+        self.assertEqual(methods & assigned, set())
+        self.assertEqual((methods | assigned) & PLAIN_METHODS, {"__init__", "__eq__"})
+        read = {node.attr for path, node in nodes(ast.Attribute) if isinstance(node.ctx, ast.Load)}
+        self.assertEqual(read - methods - assigned - METHODS, {"__init__"} & read)
+
+    def test_names(self):
+        for path, node in nodes(ast.Name):
+            self.assertFalse(node.id == "_" and isinstance(node.ctx, ast.Load), (path.name, node.lineno))
+            self.assertFalse(node.id.startswith("__"), (path.name, node.lineno))
+        for path, node in nodes((ast.FunctionDef, ast.ClassDef)):
+            self.assertRegex(node.name, r"^[A-Za-z][A-Za-z0-9_]*$|^__(init|eq)__$")
+
+    def test_strings(self):
+        for path, tree in TREES.items():
+            told = {ast.get_docstring(node, clean=False) for node in ast.walk(tree)
+                    if isinstance(node, (ast.Module, ast.ClassDef, ast.FunctionDef))}
+            for node in ast.walk(tree):
+                if isinstance(node, ast.Constant) and isinstance(node.value, str) and node.value not in told:
+                    self.assertRegex(node.value, r"^[-a-z, ]*$|^\n$", path)
+
+    def test_each_function_that_says_so_returns_true_or_false(self):
+        # Each return of such a function is a comparison, a literal, or made of such ones and calls.
+        for path, node in nodes(ast.FunctionDef):
+            if node.name.startswith(("is_", "are_", "may_", "does_", "has_")) or node.name.endswith("_holds"):
+                for part in ast.walk(node):
+                    if isinstance(part, ast.Return):
+                        self.assertTrue(is_truth(part.value), (path.name, part.lineno))
 
     def test_what_is_never_used(self):
         self.assertEqual([(path.name, node.lineno) for path, node in nodes(NEVER)], [])

@@ -1,5 +1,6 @@
 """The examples of README.md give what it says."""
 
+import builtins
 import doctest
 import unittest
 from pathlib import Path
@@ -12,6 +13,8 @@ class Readme(unittest.TestCase):
         text = README.read_text().replace("```\n", "\n")
         test = doctest.DocTestParser().get_doctest(text, {}, "README.md", None, 0)
         self.assertGreater(len(test.examples), 10)
+        # Showing a value leaves it behind as a builtin.
+        self.addCleanup(vars(builtins).pop, "_", None)
         self.assertEqual(doctest.DocTestRunner(verbose=False).run(test).failed, 0)
 
 

@@ -31,6 +31,13 @@ def at(s, history):
     return tuple([(s, event) for event in history])
 
 
+# Here 2, 3 and 4 go round, 0 comes before 3, and 1 only comes after 4.
+APART = tuple([(s, ("do", t, kind)) for s, steps in enumerate([((0, "add"), (2, "add"), (3, "get")), ((3, "add"), (4, "get")),
+                                                               ((4, "add"), (2, "get")), ((4, "add"), (1, "get"))])
+               for t, kind in steps]
+              + [(s, ("yes", t, ())) for s, some in enumerate([(0, 2, 3), (3, 4), (4, 2), (4, 1)]) for t in some])
+
+
 class Case(unittest.TestCase):
     def run_is(self, expected, *runs_):
         for run in runs_:
@@ -345,6 +352,18 @@ class WrongInputs(Case):
         for thing in [4, -1, 10 ** 39, True, False, None, "0", "", (), (0,), [0], {}]:
             self.raises(BadSite, thing, lambda: site_history(CELLS, CROSS, thing))
             self.raises(BadSite, thing, lambda: site_history(s=thing, run=(), table=EMPTY))
+
+
+class Rings(Case):
+    def test_a_ring_among_others(self):
+        completion = tuple([("firm", t, ()) for t in range(5)])
+        self.assertIn(completion, completions(CELLS, APART))
+        thing = judge_run(CELLS, APART, completion)
+        self.assertEqual((thing[0], sorted(thing[1])), ("ring", [2, 3, 4]))
+        self.assertIs(runs.holds(CELLS, APART, completion, thing), True)
+        for ring in permutations(range(5), 3):
+            expected = ring in ((2, 3, 4), (3, 4, 2), (4, 2, 3))
+            self.assertIs(run_holds(CELLS, APART, completion, ("ring", ring)), expected, ring)
 
 
 if __name__ == "__main__":

@@ -285,6 +285,14 @@ class Against(Case):
         leading += tuple([("hear", ("firm", t, (1,) if t == 2 else ())) for t in (1, 2, 3)])
         self.wrong(CIRCLES, leading)
 
+    def test_a_ring_of_supporters_and_a_condition(self):
+        # 1 supports 2, and 2 supports 3, and 1 comes after 3 by its fact, though no step of 3 supports it.
+        history = CIRCLE[:4] + (("yes", 1, ()), ("yes", 2, ()), ("yes", 3, ()), ("hear", ("firm", 1, (3,))),
+                                ("hear", ("firm", 2, ())), ("hear", ("firm", 3, ())))
+        self.assertEqual(sites.outcomes(CIRCLES, history), ((1, 2, 3),))
+        self.wrong(CIRCLES, history)
+        self.right(CIRCLES, history[:7] + (("hear", ("firm", 1, ())),) + history[8:])
+
     def test_a_ring_of_supporters_with_eight_transactions(self):
         kinds = tuple("abcdefgh")
         table = (kinds, tuple([(kind, kind) for kind in kinds]))

@@ -1,6 +1,6 @@
 """What a site does: it refuses transactions, decides facts, and receives messages."""
 
-from yesifs.logs import Book, active_in, book_after, next_yes_row, refusal, write
+from yesifs.logs import Book, book_after, next_yes_row, refusal, restarting, write
 from yesifs.moments import is_active, may_hear
 
 
@@ -51,10 +51,15 @@ def tell_others(site, fact):
     return [("tell", fact, s) for s in range(site.many) if s != site.here]
 
 
+def write_all(site, rows):
+    """Write rows that can come next."""
+    for row in rows:
+        write(site.book, row)
+
+
 def refuse(site, some):
     """Refuse some active transactions."""
-    for row in refusal(site.book, some):
-        write(site.book, row)
+    write_all(site, refusal(site.book, some))
 
 
 def settle(site):
@@ -69,7 +74,7 @@ def force(site):
 
 def restart(site):
     """Refuse all active transactions, and force all rows."""
-    refuse(site, active_in(site.book))
+    write_all(site, restarting(site.book))
     force(site)
 
 

@@ -239,6 +239,11 @@ def refusal(book, some):
     return [("no", t) for t in refused] + [("back", t, i) for i, t in owners.items() if t in gone]
 
 
+def restarting(book):
+    """The list of the rows of refusing all active transactions."""
+    return refusal(book, active_in(book))
+
+
 def refuse_rows(log, some):
     """The tuple of the rows of refusing some active transactions."""
     book = checked_book(log)
@@ -249,13 +254,12 @@ def refuse_rows(log, some):
 
 def settle_rows(log):
     """The tuple of the rows of refusing none."""
-    return tuple(refusal(checked_book(log), ()))
+    return tuple(refusal(checked_book(log), []))
 
 
 def restart_rows(log):
     """The tuple of the rows of refusing all active transactions."""
-    book = checked_book(log)
-    return tuple(refusal(book, active_in(book)))
+    return tuple(restarting(checked_book(log)))
 
 
 def answer_of(log, i):
