@@ -4,7 +4,8 @@ import unittest
 from random import Random
 
 from tests import making_stores as making
-from tests.test_logs import ADD, GET, SET
+from tests.cases import Raising
+from tests.test_logs import GET, SET
 from tests.test_sending import NO_MANY
 from tests.test_stores import DONE, FIRM, after, seen
 from tests.test_views import BOTH
@@ -48,13 +49,7 @@ def bench_after(*orders, many=2):
     return bench
 
 
-class Case(unittest.TestCase):
-    def raises(self, error, thing, *calls):
-        for call in calls:
-            with self.assertRaises(error) as caught:
-                call()
-            self.assertIs(caught.exception.thing, thing)
-
+class Case(Raising):
     def is_at(self, bench, orders, many=2):
         """The store, the orders and the text of a bench are those of the orders."""
         self.assertEqual(bench.orders(), tuple(orders))

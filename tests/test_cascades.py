@@ -9,6 +9,7 @@ from tests import reference
 from tests import reference_logs as logs
 from tests import reference_sites as sites
 from tests import reference_stores as models
+from tests.cases import Raising
 from tests.test_logs import ADD, GET, LOG, NO_LOGS, NO_OPERATIONS, OTHER, SET, VOTED
 from tests.things import altered, plain_things
 from yesifs.cascades import cascade, greatest_cascade, is_script, log_of, waits
@@ -25,15 +26,7 @@ NO_SCRIPTS = [
     *[((1, (thing,)),) for thing in NO_OPERATIONS]]
 
 
-class Case(unittest.TestCase):
-    def raises(self, error, thing, *calls):
-        for call in calls:
-            with self.assertRaises(error) as caught:
-                call()
-            self.assertIs(caught.exception.thing, thing)
-
-
-class Cascades(Case):
+class Cascades(Raising):
     def check(self, log, t, *expected):
         self.assertEqual(cascade(log, t), expected)
         self.assertEqual(cascade(t=t, log=log), expected)
@@ -111,7 +104,7 @@ class Cascades(Case):
             self.raises(BadTransaction, t, lambda: cascade(VOTED, t))
 
 
-class Scripts(Case):
+class Scripts(Raising):
     def test_scripts(self):
         for script in ((), SCRIPT, FREE, SCRIPT[1:], ((0, (GET,)),), ((10 ** 39, (SET,) * 7),)):
             self.assertIs(is_script(script), True)
@@ -129,7 +122,7 @@ class Scripts(Case):
             self.assertIs(is_script(thing), models.is_script(thing), thing)
 
 
-class Interleavings(Case):
+class Interleavings(Raising):
     def test_logs(self):
         self.assertEqual(log_of((), ()), ())
         self.assertEqual(log_of(SCRIPT, (3, 2, 1, 2)), (("do", 3, ("get", "y"), 0), ("do", 2, GET, 0), ("do", 1, ADD, 0),
@@ -155,7 +148,7 @@ class Interleavings(Case):
         self.raises(BadInterleaving, (1,), lambda: log_of((), (1,)), lambda: waits((), (1,)))
 
 
-class Greatest(Case):
+class Greatest(Raising):
     def check(self, script, t, *expected):
         self.assertEqual(greatest_cascade(script, t), expected)
         self.assertEqual(greatest_cascade(t=t, script=script), expected)
@@ -187,7 +180,7 @@ class Greatest(Case):
         self.raises(BadTransaction, 1, lambda: greatest_cascade((), 1))
 
 
-class Waits(Case):
+class Waits(Raising):
     def check(self, script, order, *expected):
         self.assertEqual(waits(script, order), expected)
         self.assertEqual(waits(interleaving=order, script=script), expected)

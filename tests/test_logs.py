@@ -7,6 +7,7 @@ from random import Random
 from tests import making_logs as making
 from tests import reference_logs as logs
 from tests import reference_sites as sites
+from tests.cases import Raising
 from tests.things import altered, plain_things
 from yesifs.errors import BadKeys, BadLog, BadOperation, BadStep, BadTransaction, BadTransactions
 from yesifs.judge import full_conditions, is_right, is_right_now
@@ -30,13 +31,7 @@ NO_LOGS = [thing for thing in plain_things() if thing != ()] + [
     (("do", 1, "ax"),), (("do", 1, ADD),), (("do", 1, ADD, 5),), (("do", 1, ADD, False),)]
 
 
-class Case(unittest.TestCase):
-    def raises(self, error, thing, *calls):
-        for call in calls:
-            with self.assertRaises(error) as caught:
-                call()
-            self.assertIs(caught.exception.thing, thing)
-
+class Case(Raising):
     def follows(self, log, *rows):
         for row in rows:
             self.assertIs(is_log(log + (row,)), True, (log, row))

@@ -5,6 +5,7 @@ from random import Random
 
 from tests import making_logs as making
 from tests import reference_logs as logs
+from tests.cases import Raising
 from tests.test_logs import ADD, GET, LOG, NO_LOGS, OTHER, VOTED
 from tests.things import altered, plain_things
 from yesifs.errors import BadMany, BadMessage, BadRows, BadSite, BadState, BadTransaction
@@ -39,13 +40,7 @@ def log_of(*rows):
     return rows
 
 
-class Case(unittest.TestCase):
-    def raises(self, error, thing, *calls):
-        for call in calls:
-            with self.assertRaises(error) as caught:
-                call()
-            self.assertIs(caught.exception.thing, thing)
-
+class Case(Raising):
     def states(self, expected, many, here, *things):
         for thing in things:
             self.assertIs(is_state(many, here, thing), expected, thing)

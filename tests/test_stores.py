@@ -6,6 +6,7 @@ from random import Random
 from tests import making_stores as making
 from tests import promises
 from tests import reference_stores as models
+from tests.cases import Raising
 from tests.test_logs import ADD, GET, NO_OPERATIONS, OTHER, SET
 from tests.test_sending import NO_MANY, NO_SITES
 from tests.things import altered, plain_things
@@ -42,13 +43,7 @@ def model_after(orders, many=2):
     return model
 
 
-class Case(unittest.TestCase):
-    def raises(self, error, thing, *calls):
-        for call in calls:
-            with self.assertRaises(error) as caught:
-                call()
-            self.assertIs(caught.exception.thing, thing)
-
+class Case(Raising):
     def can(self, store, *orders):
         for order in orders:
             self.assertIs(store.is_possible(order), True, order)

@@ -7,14 +7,14 @@ from random import Random
 from tests import making, reference
 from tests import reference_sites as sites
 from tests import reference_tokens as tokens
+from tests.cases import Raising
 from tests.test_histories import CELLS, EMPTY, LENT, TWO
 from tests.test_judge import BARE, BUILT, EARLY, ONE, steps
 from tests.test_sites import NO_HISTORIES, NO_TABLES
 from tests.things import altered, plain_things
 from yesifs.errors import (BadConditions, BadHistory, BadOutcome, BadStore, BadTable, BadTransaction, BadWord, IsRight,
                            NotRight)
-from yesifs.judge import history_holds, is_right, is_right_now, is_sufficient
-from yesifs.sites import outcomes
+from yesifs.judge import history_holds, is_right, is_right_now, is_sufficient, judge_history
 from yesifs.tokens import does_show, is_store, result, store_against, weakened
 
 NO_MOVE = (0, 1, 2)
@@ -27,13 +27,7 @@ CIRCLE = (("do", 1, "a"), ("do", 2, "a"), ("do", 2, "b"), ("do", 3, "b"), ("do",
 CIRCLES = (("a", "b", "c"), (("a", "a"), ("b", "b"), ("c", "c")))
 
 
-class Case(unittest.TestCase):
-    def raises(self, error, thing, *calls):
-        for call in calls:
-            with self.assertRaises(error) as caught:
-                call()
-            self.assertIs(caught.exception.thing, thing)
-
+class Case(Raising):
     def stores(self, expected, table, history, *things):
         for thing in things:
             self.assertIs(is_store(table, history, thing), expected, thing)
@@ -327,6 +321,24 @@ class Against(Case):
             seen[expected] += 1
             (self.right if expected else self.wrong)(table, history)
         self.assertGreater(min(seen.values()), 80)
+
+    def test_the_first_event_that_makes_a_history_wrong(self):
+        # [0.3]: a small store shows it for the events up to that one, and none before.
+        random = Random(76)
+        many = 0
+        for n in range(1500):
+            table = making.random_table(random)
+            make = random.choice([making.random_history, making.voted_history])
+            history = make(random, table, random.randint(2, 9), random.randint(2, 4))
+            certificate = judge_history(table, history)
+            if certificate != ("right",):
+                many += 1
+                p = certificate[1]
+                for at in range(p + 1):
+                    self.right(table, history[:at])
+                    self.right(table, history[:at] + (("fall",),))
+                self.wrong(table, history[:p + 1])
+        self.assertGreater(many, 100)
 
 
 class Weakened(Case):

@@ -9,6 +9,7 @@ from tests import promises
 from tests import reference
 from tests import reference_runs as runs
 from tests import reference_stores as models
+from tests.cases import Raising
 from tests.test_logs import ADD, GET, OTHER, SET
 from tests.test_stores import ASKED, DONE, FIRM, STARTED, VOTED, after
 from tests.things import altered, plain_things
@@ -26,15 +27,7 @@ BOTH = (("start", 1), ("start", 2), ("do", 1, 0, ADD), ("do", 2, 0, GET), ("do",
         ("deliver", ("tell", ("firm", 1, ()), 0)))
 
 
-class Case(unittest.TestCase):
-    def raises(self, error, thing, *calls):
-        for call in calls:
-            with self.assertRaises(error) as caught:
-                call()
-            self.assertIs(caught.exception.thing, thing)
-
-
-class Tables(Case):
+class Tables(Raising):
     def check(self, store, *keys):
         self.assertEqual(store_table(store), key_table(keys))
         self.assertEqual(store_table(store=store), key_table(keys))
@@ -50,7 +43,7 @@ class Tables(Case):
         self.check(after(*DONE, ("fall", 1, 0), ("fall", 0, 0)))
 
 
-class Runs(Case):
+class Runs(Raising):
     def check(self, store):
         logs = promises.logs_of(store)
         self.assertEqual(store_run(store), models.run(logs))
@@ -104,7 +97,7 @@ class Runs(Case):
             self.assertEqual(store, after(*FIRM))
 
 
-class Orders(Case):
+class Orders(Raising):
     def orders(self, store):
         """All tuples that are orders of certificates for the run, as the reference of runs says."""
         table, run = store_table(store), store_run(store)
@@ -165,7 +158,7 @@ class Orders(Case):
             promises.look_at_all(self, after(*orders))
 
 
-class WrongInputs(Case):
+class WrongInputs(Raising):
     def test_stores(self):
         for thing in plain_things() + [Bench(2), (Store(2),), [Store(2)], Store, (3, ((1, 0, 2),)), SET]:
             self.raises(BadStore, thing, lambda: store_table(thing), lambda: store_run(thing),

@@ -2,14 +2,14 @@
 
 from yesifs.checks import are_transactions, is_ascending, is_transaction
 from yesifs.errors import BadInterleaving, BadScript, BadTransaction
-from yesifs.logs import (Book, checked_book, drawn_along, is_operation, next_do_row, refusal, write)
+from yesifs.logs import Book, checked_book, drawn_along, is_operation, next_do_row, refusal, write
 from yesifs.moments import check_active, kept_at, lost_at, lost_if
 
 
 def open_in(moment):
     """The ascending list of the active and the voted transactions."""
-    ended = {**kept_at(moment), **lost_at(moment)}
-    return [t for t in sorted(moment.steps_of) if t not in ended]
+    kept, gone = kept_at(moment), lost_at(moment)
+    return [t for t in sorted(moment.steps_of) if t not in kept and t not in gone]
 
 
 def cascade_in(book, t):

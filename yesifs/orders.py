@@ -4,7 +4,7 @@ Of a store these functions need what its class says: many, sites, down, mail and
 """
 
 from yesifs.checks import is_number, is_transaction
-from yesifs.desks import (decide, force, leader_among, receive, refuse, restart, site_with, target_of, write_all)
+from yesifs.desks import decide, force, leader_among, receive, refuse, restart, site_with, target_of, write_all
 from yesifs.logs import is_operation, next_do_row, restarting, write
 from yesifs.moments import is_active, is_free
 from yesifs.sending import is_among, is_sendable
